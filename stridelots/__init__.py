@@ -1,0 +1,1 @@
+"""Stridelots: neighbouring lots that change places."""

@@ -1,0 +1,1 @@
+"""Boards, their cells, and how standings are written."""
