@@ -13,6 +13,10 @@ LISTED = {
     ],
     "boards/cells.py": ["MOST_CELLS", "cells_many"],
     "boards/texts.py": ["standing_shown", "read_standing"],
+    "books/rules.py": ["need_book", "all_deeds", "pairs_of"],
+    "books/doing.py": ["done"],
+    "plans/turnings.py": ["Turning"],
+    "plans/texts.py": ["turning_of", "read_plans"],
 }
 
 

@@ -1,0 +1,1 @@
+"""Rules, books of rules, and the deeds that are done by them."""

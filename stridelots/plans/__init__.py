@@ -1,0 +1,1 @@
+"""Turnings of cells, and plans of deeds as texts."""
