@@ -1,5 +1,6 @@
 """Boards, books and standings to test with, and their deeds worked out once more."""
 
+import functools
 import random
 import string
 
@@ -66,6 +67,7 @@ def floor_pairs(board, rule, cell):
     return tuple(pairs)
 
 
+@functools.cache
 def deeds_by_hand(board, book):
     return tuple(
         (number, cell)
@@ -84,6 +86,48 @@ def done_by_hand(board, book, standing, deeds):
             things[b] = (standing[a][0], standing[a][1] ^ bent)
         standing = tuple(things[x] for x in range(len(standing)))
     return standing
+
+
+def ties_by_hand(board, book):
+    """All ties of the book as triples (cell, other cell, bent)."""
+    return sorted({
+        (a, b, book[number][-1])
+        for number, cell in deeds_by_hand(board, book)
+        for a, b in pairs_by_hand(board, book[number], cell)
+    })
+
+
+def joined(points, pairs):
+    """The parts that the points fall into when those of each pair are joined, each sorted."""
+    parts = {point: {point} for point in points}
+    for a, b in pairs:
+        if parts[a] is not parts[b]:
+            both = parts[a] | parts[b]
+            for point in both:
+                parts[point] = both
+    return sorted({tuple(sorted(part)) for part in parts.values()})
+
+
+@functools.cache
+def classes_by_hand(board, book):
+    return tuple(joined(range(size(board)), [tie[:2] for tie in ties_by_hand(board, book)]))
+
+
+def marks_by_hand(board, book):
+    """The marks, or None: each cell is taken twice, with either mark, and ties join what fits."""
+    points = [(cell, mark) for cell in range(size(board)) for mark in (0, 1)]
+    pairs = [
+        ((a, mark), (b, mark ^ bent))
+        for a, b, bent in ties_by_hand(board, book) for mark in (0, 1)
+    ]
+    marks = {}
+    for part in joined(points, pairs):
+        if len({cell for cell, _ in part}) < len(part):
+            return None
+        # Of a class's two parts the one with its first cell's mark 0 comes first.
+        for cell, mark in part:
+            marks.setdefault(cell, mark)
+    return tuple(marks[cell] for cell in range(size(board)))
 
 
 def some_books(board, many, seed=0):

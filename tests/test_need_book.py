@@ -87,6 +87,12 @@ class NeedBook(unittest.TestCase):
                     self.refused(board, (*rules[:at], wrong), at)
                     self.refused(board, (*rules[:at], wrong, *rules[at:]), at)
 
+    def test_truths_are_no_whole_numbers(self):
+        for rule in (("swap", True, 0), ("swap", 1, True), ("swap", 1, False)):
+            self.refused(ROW, (rule,), 0)
+        for rule in (("over", True, 1, 0), ("under", 1, True, 0), ("over", 1, 1, False)):
+            self.refused(FLOOR, (rule,), 0)
+
     def test_first_of_several_wrong_ones(self):
         for board, rules in GOOD.items():
             self.refused(board, ((), ()), 0)

@@ -15,6 +15,9 @@ LISTED = {
     "boards/texts.py": ["standing_shown", "read_standing"],
     "books/rules.py": ["need_book", "all_deeds", "pairs_of"],
     "books/doing.py": ["done"],
+    "webs/classes.py": ["classes_of"],
+    "webs/marks.py": ["is_even", "marks_of", "kinds_of"],
+    "signs/rows.py": ["sign_row", "span_of", "lots_of"],
     "plans/turnings.py": ["Turning"],
     "plans/texts.py": ["turning_of", "read_plans"],
 }

@@ -46,8 +46,11 @@ def bent_of(rule):
 
 def _is_rule(board, rule):
     """Whether the tuple of texts and numbers is a rule for the board that fits it."""
-    words, many = (("over", "under"), 3) if board[0] == "floor" else (("swap",), 2)
-    if len(rule) != 1 + many or rule[0] not in words:
+    if board[0] == "floor":
+        words, parts = ("over", "under"), 4
+    else:
+        words, parts = ("swap",), 3
+    if len(rule) != parts or rule[0] not in words:
         return False
     numbers = rule[1:]
     if not all([_is_whole(number) for number in numbers]):

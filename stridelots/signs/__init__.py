@@ -1,0 +1,1 @@
+"""Signs of deeds: even and odd in each class."""

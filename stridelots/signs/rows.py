@@ -1,0 +1,61 @@
+"""Sign rows of deeds, their sums, and lots of classes."""
+
+from stridelots.books.rules import all_deeds, pairs_at, pairs_of
+from stridelots.webs.classes import classes_of
+
+
+def sign_row(board, book, deed):
+    """For each class 1 where an odd number of the deed's pairs lie in it, else 0; or NoDeed."""
+    return _signs(classes_of(board, book), pairs_of(board, book, deed))
+
+
+def span_of(board, book):
+    """The reduced list of all sums of the book's sign rows."""
+    classes = classes_of(board, book)
+    rows = [_signs(classes, pairs_at(board, book[number], cell)) for number, cell in all_deeds(board, book)]
+    return _reduced(rows, len(classes))
+
+
+def lots_of(board, book):
+    """The reduced list of the rows that have an even number of 1 in common with each sign row."""
+    many = len(classes_of(board, book))
+    span = span_of(board, book)
+    firsts = [row.index(1) for row in span]
+    free = [at for at in range(many) if at not in firsts]
+    return _reduced([_lot_with(at, span, many) for at in free], many)
+
+
+def _signs(classes, pairs):
+    """For each class the rest at 2 of how many of the pairs lie in it."""
+    # Both cells of a pair lie in one class.
+    return tuple([len([one for one, _ in pairs if one in cells]) % 2 for cells in classes])
+
+
+def _reduced(rows, many):
+    """The reduced list whose sums are just those of the rows, which have so many places."""
+    told = []
+    left = rows
+    for at in range(many):
+        leads = [row for row in left if row[at] == 1]
+        if leads:
+            # The lead itself becomes a row of noughts: it leads no more.
+            left = [_without(row, at, leads[0]) for row in left]
+            told = [_without(row, at, leads[0]) for row in told] + [leads[0]]
+    return tuple(told)
+
+
+def _without(row, at, lead):
+    """The row, with the lead added where the row has 1 at the place."""
+    if row[at] == 0:
+        return row
+    return tuple([(one + other) % 2 for one, other in zip(row, lead)])
+
+
+def _lot_with(at, span, many):
+    """The lot that has 1 at this place where no row of the span has its first, and at no other such."""
+    lot = [0] * many
+    lot[at] = 1
+    for row in span:
+        # The row's first 1 is its only one among the places of the firsts.
+        lot[row.index(1)] = row[at]
+    return tuple(lot)

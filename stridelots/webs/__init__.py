@@ -1,0 +1,1 @@
+"""Cells that hang together by the deeds of a book."""

@@ -1,0 +1,17 @@
+"""Classes of cells."""
+
+from stridelots.webs.ties import bends_from, ties_by_cell
+
+
+def classes_of(board, book):
+    """The classes of cells that hang together by ties, in the order of their first cells."""
+    ties = ties_by_cell(board, book)
+    classes = []
+    seen = {}
+    for cell in range(len(ties)):
+        if cell not in seen:
+            found = sorted(bends_from(ties, cell))
+            classes.append(tuple(found))
+            for one in found:
+                seen[one] = True
+    return tuple(classes)
