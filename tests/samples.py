@@ -88,6 +88,7 @@ def done_by_hand(board, book, standing, deeds):
     return standing
 
 
+@functools.cache
 def ties_by_hand(board, book):
     """All ties of the book as triples (cell, other cell, bent)."""
     return sorted({
@@ -113,6 +114,7 @@ def classes_by_hand(board, book):
     return tuple(joined(range(size(board)), [tie[:2] for tie in ties_by_hand(board, book)]))
 
 
+@functools.cache
 def marks_by_hand(board, book):
     """The marks, or None: each cell is taken twice, with either mark, and ties join what fits."""
     points = [(cell, mark) for cell in range(size(board)) for mark in (0, 1)]
@@ -165,3 +167,147 @@ def is_plain(told):
     if type(told) is tuple:
         return all(is_plain(part) for part in told)
     return type(told) in (int, str)
+
+
+def names_standing(board, names, seed=0):
+    """A standing with just these names one after the other, again from the first, faces by chance."""
+    chance = random.Random(f"{board} {names} {seed}")
+    return tuple((names[x % len(names)], chance.randint(0, 1)) for x in range(size(board)))
+
+
+def some_standings(board):
+    """Standings with names all unlike, some alike and all alike."""
+    return [unlike_standing(board)] + [names_standing(board, names) for names in (("a", "bc", "d"), ("aa",))]
+
+
+def kinds_by_hand(board, book, standing):
+    """The kinds of a standing, as tuples, class by class."""
+    marks = marks_by_hand(board, book)
+    kinds = [
+        name if marks is None else (name, face ^ marks[cell])
+        for cell, (name, face) in enumerate(standing)
+    ]
+    return [tuple(kinds[cell] for cell in cells) for cells in classes_by_hand(board, book)]
+
+
+def exchanges(kinds, goals):
+    """How many exchanges lead unlike kinds to their places in goals."""
+    kinds, many = list(kinds), 0
+    for at, goal in enumerate(goals):
+        if kinds[at] != goal:
+            other = kinds.index(goal)
+            kinds[at], kinds[other] = kinds[other], kinds[at]
+            many += 1
+    return many
+
+
+def signs_by_hand(board, book, one, other):
+    """The signs of the turning class by class, where the kinds are the same in both."""
+    return tuple(
+        exchanges(kinds, goals) % 2 if len(set(kinds)) == len(kinds) else None
+        for kinds, goals in zip(kinds_by_hand(board, book, one), kinds_by_hand(board, book, other))
+    )
+
+
+def moved(board, book, standing, goes):
+    """The standing behind each thing has gone to its goal (a dict by cells), in an even book with the kind it had."""
+    marks = marks_by_hand(board, book) or (0,) * len(standing)
+    told = list(standing)
+    for cell, goal in goes.items():
+        name, face = standing[cell]
+        told[goal] = (name, face ^ marks[cell] ^ marks[goal])
+    return tuple(told)
+
+
+def exchanged(board, book, standing, a, b):
+    return moved(board, book, standing, {a: b, b: a})
+
+
+def turned_over(standing, *cells):
+    return tuple((name, face ^ (x in cells)) for x, (name, face) in enumerate(standing))
+
+
+def mixed(board, book, standing, seed=0):
+    """All things of each class mixed anew; where the book is not even, faces anew, too, none odd that was not."""
+    chance = random.Random(f"{board} {book} {seed}")
+    classes = classes_by_hand(board, book)
+    goes = {}
+    for cells in classes:
+        goes.update(zip(cells, chance.sample(cells, len(cells))))
+    standing = moved(board, book, standing, goes)
+    if marks_by_hand(board, book) is None:
+        for cells in classes:
+            turned = [cell for cell in cells if chance.randint(0, 1)]
+            standing = turned_over(standing, *turned[len(turned) % 2:])
+    return standing
+
+
+def all_led(board, book, standing, most=10 ** 6):
+    """All standings that deeds lead to, each with the first row of the fewest deeds to it."""
+    rows = {standing: ()}
+    level = [standing]
+    while level and len(rows) <= most:
+        found = []
+        for one in level:
+            for deed in deeds_by_hand(board, book):
+                other = done_by_hand(board, book, one, (deed,))
+                if other not in rows:
+                    rows[other] = rows[one] + (deed,)
+                    found.append(other)
+        level = found
+    return rows
+
+
+def in_common(board, book, deed, numbers):
+    """How many of the deed's pairs lie in the classes of these numbers."""
+    inside = {cell for number in numbers for cell in classes_by_hand(board, book)[number]}
+    return len([pair for pair in pairs_by_hand(board, book[deed[0]], deed[1]) if inside >= set(pair)])
+
+
+def paper_by_hand(board, book, one, other, paper):
+    """Whether a tuple in the form of a paper holds what DOC.md says of it."""
+    classes = classes_by_hand(board, book)
+    kinds = list(zip(kinds_by_hand(board, book, one), kinds_by_hand(board, book, other)))
+    word, told = paper[0], paper[1]
+    if word == "lack":
+        return told in range(len(classes)) and kinds[told][0].count(paper[2]) != kinds[told][1].count(paper[2])
+    if word == "faces":
+        if told not in range(len(classes)) or marks_by_hand(board, book) is not None:
+            return False
+        return sum(one[cell][1] + other[cell][1] for cell in classes[told]) % 2 == 1
+    if not told or sorted(set(told)) != list(told) or not set(told) <= set(range(len(classes))):
+        return False
+    for number in told:
+        before, behind = kinds[number]
+        if len(set(before)) < len(before) or sorted(before) != sorted(behind):
+            return False
+    if any(in_common(board, book, deed, told) % 2 for deed in deeds_by_hand(board, book)):
+        return False
+    return sum(exchanges(*kinds[number]) for number in told) % 2 == 1
+
+
+@functools.cache
+def sums_by_hand(board, book):
+    """All sums of the sign rows of the book's deeds."""
+    sums = {(0,) * len(classes_by_hand(board, book))}
+    for deed in deeds_by_hand(board, book):
+        row = tuple(in_common(board, book, deed, (x,)) % 2 for x in range(len(classes_by_hand(board, book))))
+        if row not in sums:
+            sums |= {tuple(a ^ b for a, b in zip(row, one)) for one in sums}
+    return sums
+
+
+def leads_by_hand(board, book, one, other):
+    """Whether deeds lead there: by kinds, faces, and a sum of sign rows that tells all signs that are fixed."""
+    kinds, goals = kinds_by_hand(board, book, one), kinds_by_hand(board, book, other)
+    if [sorted(row) for row in kinds] != [sorted(row) for row in goals]:
+        return False
+    if marks_by_hand(board, book) is None:
+        for cells in classes_by_hand(board, book):
+            if sum(one[cell][1] + other[cell][1] for cell in cells) % 2:
+                return False
+    signs = signs_by_hand(board, book, one, other)
+    return any(
+        all(sign is None or sign == place for sign, place in zip(signs, row))
+        for row in sums_by_hand(board, book)
+    )

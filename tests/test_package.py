@@ -18,6 +18,10 @@ LISTED = {
     "webs/classes.py": ["classes_of"],
     "webs/marks.py": ["is_even", "marks_of", "kinds_of"],
     "signs/rows.py": ["sign_row", "span_of", "lots_of"],
+    "signs/turns.py": ["turning_signs"],
+    "papers/barred.py": ["barred"],
+    "papers/looker.py": ["barred_shown"],
+    "ways/rounds.py": ["round_of", "pair_turned"],
     "plans/turnings.py": ["Turning"],
     "plans/texts.py": ["turning_of", "read_plans"],
 }

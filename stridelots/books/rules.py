@@ -32,7 +32,7 @@ def pairs_at(board, rule, cell):
     """The pairs that the rule's deed at the cell exchanges; it is not asked whether there is one."""
     _, wide = high_and_wide(board)
     cells = cells_many(board)
-    h, w = _lot(rule)
+    h, w = lot_of(rule)
     stride = h * wide if rule[0] == "under" else w
     lot = [cell + r * wide + c for r in range(h) for c in range(w)]
     # Only a ring's deeds pass the last cell: the cells are counted on round from 0.
@@ -44,6 +44,18 @@ def bent_of(rule):
     return rule[-1]
 
 
+def lot_of(rule):
+    """How many rows and columns a lot of the rule has."""
+    if rule[0] == "swap":
+        return 1, rule[1]
+    return rule[1], rule[2]
+
+
+def is_whole(part):
+    """Whether the part is a whole number; a truth is none."""
+    return isinstance(part, int) and not isinstance(part, bool)
+
+
 def _is_rule(board, rule):
     """Whether the tuple of texts and numbers is a rule for the board that fits it."""
     if board[0] == "floor":
@@ -53,20 +65,15 @@ def _is_rule(board, rule):
     if len(rule) != parts or rule[0] not in words:
         return False
     numbers = rule[1:]
-    if not all([_is_whole(number) for number in numbers]):
+    if not all([is_whole(number) for number in numbers]):
         return False
     return min(numbers[:-1]) >= 1 and numbers[-1] in (0, 1) and _fits(board, rule)
-
-
-def _is_whole(part):
-    """Whether the part of a rule is a whole number; a truth is none."""
-    return isinstance(part, int) and not isinstance(part, bool)
 
 
 def _fits(board, rule):
     """Whether the board is great enough for the rule."""
     high, wide = high_and_wide(board)
-    h, w = _lot(rule)
+    h, w = lot_of(rule)
     if board[0] == "ring":
         return 5 * w <= wide
     if rule[0] == "under":
@@ -75,19 +82,12 @@ def _fits(board, rule):
     return 3 * w <= wide and 2 * h - 1 <= high
 
 
-def _lot(rule):
-    """How many rows and columns a lot of the rule has."""
-    if rule[0] == "swap":
-        return 1, rule[1]
-    return rule[1], rule[2]
-
-
 def _begins(board, rule):
     """The cells at which the rule has a deed, rising."""
     high, wide = high_and_wide(board)
     if board[0] == "ring":
         return list(range(wide))
-    h, w = _lot(rule)
+    h, w = lot_of(rule)
     if rule[0] == "under":
         rows, columns = high - 2 * h, wide - w
     else:

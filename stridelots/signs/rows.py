@@ -11,28 +11,45 @@ def sign_row(board, book, deed):
 
 def span_of(board, book):
     """The reduced list of all sums of the book's sign rows."""
-    classes = classes_of(board, book)
-    rows = [_signs(classes, pairs_at(board, book[number], cell)) for number, cell in all_deeds(board, book)]
-    return _reduced(rows, len(classes))
+    return reduced(list(deeds_by_signs(board, book)), len(classes_of(board, book)))
 
 
 def lots_of(board, book):
     """The reduced list of the rows that have an even number of 1 in common with each sign row."""
+    return lots_within(board, book, list(range(len(classes_of(board, book)))))
+
+
+def lots_within(board, book, numbers):
+    """The reduced list of the lots that have no 1 but in the classes of these numbers."""
     many = len(classes_of(board, book))
-    span = span_of(board, book)
+    # What has an even number of 1 in common with a row of a single 1 has none at its place.
+    bars = [one_at(at, many) for at in range(many) if at not in numbers]
+    span = reduced(list(deeds_by_signs(board, book)) + bars, many)
     firsts = [row.index(1) for row in span]
     free = [at for at in range(many) if at not in firsts]
-    return _reduced([_lot_with(at, span, many) for at in free], many)
+    return reduced([_lot_with(at, span, many) for at in free], many)
 
 
-def _signs(classes, pairs):
-    """For each class the rest at 2 of how many of the pairs lie in it."""
-    # Both cells of a pair lie in one class.
-    return tuple([len([one for one, _ in pairs if one in cells]) % 2 for cells in classes])
+def deeds_by_signs(board, book):
+    """For each unlike sign row of the book's deeds the first deed that has it."""
+    classes = classes_of(board, book)
+    deeds = {}
+    for number, cell in all_deeds(board, book):
+        row = _signs(classes, pairs_at(board, book[number], cell))
+        deeds.setdefault(row, (number, cell))
+    return deeds
 
 
-def _reduced(rows, many):
-    """The reduced list whose sums are just those of the rows, which have so many places."""
+def one_at(at, many):
+    """The row of so many places that has a single 1, at this place."""
+    return tuple([1 if place == at else 0 for place in range(many)])
+
+
+def reduced(rows, many):
+    """The reduced list whose sums are just those of the rows, which have so many places.
+
+    Where rows have more places, those behind go along with the ones ahead.
+    """
     told = []
     left = rows
     for at in range(many):
@@ -42,6 +59,12 @@ def _reduced(rows, many):
             left = [_without(row, at, leads[0]) for row in left]
             told = [_without(row, at, leads[0]) for row in told] + [leads[0]]
     return tuple(told)
+
+
+def _signs(classes, pairs):
+    """For each class the rest at 2 of how many of the pairs lie in it."""
+    # Both cells of a pair lie in one class.
+    return tuple([len([one for one, _ in pairs if one in cells]) % 2 for cells in classes])
 
 
 def _without(row, at, lead):

@@ -1,0 +1,1 @@
+"""Papers that show that no deeds lead from one standing to another."""

@@ -1,0 +1,1 @@
+"""Rows of deeds that do what is asked."""
