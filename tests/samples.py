@@ -38,6 +38,7 @@ def all_rules(board):
     return over + under
 
 
+@functools.cache
 def pairs_by_hand(board, rule, cell):
     """The pairs of the rule's deed at the cell, walked on the board, or None."""
     if not 0 <= cell < size(board):
@@ -78,14 +79,13 @@ def deeds_by_hand(board, book):
 
 
 def done_by_hand(board, book, standing, deeds):
+    things = list(standing)
     for number, cell in deeds:
-        things = dict(enumerate(standing))
         bent = book[number][-1]
         for a, b in pairs_by_hand(board, book[number], cell):
-            things[a] = (standing[b][0], standing[b][1] ^ bent)
-            things[b] = (standing[a][0], standing[a][1] ^ bent)
-        standing = tuple(things[x] for x in range(len(standing)))
-    return standing
+            (one, face), (other, turned) = things[a], things[b]
+            things[a], things[b] = (other, turned ^ bent), (one, face ^ bent)
+    return tuple(things)
 
 
 @functools.cache

@@ -36,7 +36,7 @@ MODULE_LEVEL = (ast.Expr, ast.ImportFrom, ast.FunctionDef, ast.ClassDef, ast.Ass
 BARRED = (
     ast.AsyncFunctionDef, ast.AsyncFor, ast.AsyncWith, ast.Await, ast.Import, ast.Global, ast.Nonlocal,
     ast.GeneratorExp, ast.Yield, ast.YieldFrom, ast.Lambda, ast.Div, ast.MatMult, ast.With, ast.Match,
-    ast.AnnAssign, ast.NamedExpr, ast.Delete, ast.Set, ast.SetComp,
+    ast.AnnAssign, ast.NamedExpr, ast.Set, ast.SetComp,
 )
 WORDS = ("type", "typing", "enum", "Enum", "Flag", "Generic", "Protocol", "ABC", "namedtuple", "_wall")
 

@@ -22,8 +22,12 @@ LISTED = {
     "papers/barred.py": ["barred"],
     "papers/looker.py": ["barred_shown"],
     "ways/rounds.py": ["round_of", "pair_turned"],
+    "ways/led.py": ["led"],
+    "counts/many.py": ["many_led"],
+    "counts/fewest.py": ["MOST_SEEN", "fewest", "steps_of"],
     "plans/turnings.py": ["Turning"],
     "plans/texts.py": ["turning_of", "read_plans"],
+    "yard.py": ["LIMIT", "Yard"],
 }
 
 

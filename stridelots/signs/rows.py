@@ -40,6 +40,19 @@ def deeds_by_signs(board, book):
     return deeds
 
 
+def deeds_summing(board, book, signs):
+    """Deeds whose sign rows have the sum signs, a row of which it is known that some have; None is as good as both."""
+    fixed = [number for number, sign in enumerate(signs) if sign is not None]
+    deeds = deeds_by_signs(board, book)
+    # Each row keeps behind its signs of which sign rows it is the sum.
+    rows = [tuple([row[number] for number in fixed]) + one_at(at, len(deeds)) for at, row in enumerate(deeds)]
+    summed = [0] * len(deeds)
+    for row in reduced(rows, len(fixed)):
+        if signs[fixed[row.index(1)]] == 1:
+            summed = [(one + other) % 2 for one, other in zip(summed, row[len(fixed):])]
+    return [deed for deed, taken in zip(deeds.values(), summed) if taken == 1]
+
+
 def one_at(at, many):
     """The row of so many places that has a single 1, at this place."""
     return tuple([1 if place == at else 0 for place in range(many)])

@@ -45,6 +45,10 @@ class Climb:
         more, _ = self._freed(spots, still)
         return deeds + more + turn + more[::-1] + deeds[::-1]
 
+    def deepest_first(self):
+        """All cells of the class, those of the base last."""
+        return [cell for _, cell in sorted([(self.depths[cell], cell) for cell in self.depths], reverse=True)]
+
     def _grow(self):
         """Finds the first step of each cell."""
         level = list(self.base.cells)
@@ -118,6 +122,11 @@ class Climb:
             if by_near % 2 == self.base.parted(cell, goal):
                 told.append(cell)
         return told
+
+
+def climb_in(nears, cells):
+    """The climb of the class with these cells, by those of the book's nears that are in it."""
+    return Climb([near for near in nears if near.cells[0] in cells])
 
 
 def shortened(deeds):

@@ -1,7 +1,7 @@
 """Deeds that lead three things round, or turn two over, and change nothing else."""
 
 from stridelots.errors import NoPair, NoRound
-from stridelots.ways.climbs import Climb, shortened
+from stridelots.ways.climbs import climb_in, shortened
 from stridelots.ways.nears import nears_of
 from stridelots.webs.classes import classes_of
 from stridelots.webs.marks import is_even
@@ -23,11 +23,6 @@ def pair_turned(board, book, x, y):
     if climb is None:
         raise NoPair("no two unlike cells of one class")
     return shortened(climb.pair_deeds(climb.bend(), x, y))
-
-
-def climb_in(nears, cells):
-    """The climb of the class with these cells."""
-    return Climb([near for near in nears if near.cells[0] in cells])
 
 
 def _climb_with(board, book, wanted):

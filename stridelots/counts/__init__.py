@@ -1,0 +1,1 @@
+"""How many standings can come, and by how many deeds."""
